@@ -1,0 +1,1 @@
+"""Fewturned: rows with the least weight of turned arrows."""

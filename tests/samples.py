@@ -1,0 +1,190 @@
+"""Webs, rows and wrong things that the tests share, and plain second ways to tell what is right."""
+
+import itertools
+
+
+def pairs(many):
+    return [(a, b) for a in range(many) for b in range(many) if a != b]
+
+
+def web_of(many, chosen):
+    return (many, tuple((a, b, 1 + (a * 37 + b * 11) % 99) for a, b in chosen))
+
+
+def full(many):
+    return web_of(many, pairs(many))
+
+
+def all_webs(many):
+    every = pairs(many)
+    for choice in range(2 ** len(every)):
+        yield web_of(many, [pair for k, pair in enumerate(every) if choice >> k & 1])
+
+
+def some_webs():
+    """Webs of 1 to 7 things with no arrows, few, many and all, the same ones each time."""
+    for many in range(1, 8):
+        yield (many, ())
+        every = pairs(many)
+        for step in (2, 3, 5, 7):
+            for start in range(step):
+                yield web_of(many, every[start::step])
+        yield web_of(many, [(a, b) for a, b in every if a < b])
+        yield web_of(many, [(a, b) for a, b in every if a > b])
+        yield web_of(many, [(a, b) for a, b in every if b == (a + 1) % many])
+        yield full(many)
+
+
+def rows_of(many):
+    return list(itertools.permutations(range(many)))
+
+
+def some_rows(many):
+    return rows_of(many)[::1 + many * many * many // 8]
+
+
+def plain_turned(web, row):
+    place = {thing: k for k, thing in enumerate(row)}
+    return [(a, b, w) for a, b, w in web[1] if place[a] > place[b]]
+
+
+def plain_weight(web, row):
+    return sum(w for a, b, w in plain_turned(web, row))
+
+
+def plain_least(web):
+    return min(plain_weight(web, row) for row in rows_of(web[0]))
+
+
+def plain_rings(web):
+    arrows = {(a, b) for a, b, w in web[1]}
+    found = []
+    for size in range(2, web[0] + 1):
+        for path in itertools.permutations(range(web[0]), size):
+            around = zip(path, path[1:] + path[:1])
+            if path[0] == min(path) and all(step in arrows for step in around):
+                found.append(list(path))
+    return sorted(found)
+
+
+def plain_is_free(web):
+    left = set(range(web[0]))
+    while True:
+        led_to = {b for a, b, w in web[1] if a in left and b in left}
+        if led_to == left:
+            return not left
+        left = led_to
+
+
+def is_whole(thing):
+    return type(thing) is int
+
+
+def plain_is_web(thing):
+    if type(thing) is not tuple or len(thing) != 2:
+        return False
+    many, arrows = thing
+    if not is_whole(many) or many not in (1, 2, 3, 4, 5, 6, 7) or type(arrows) is not tuple:
+        return False
+    for arrow in arrows:
+        if type(arrow) is not tuple or len(arrow) != 3 or not all(map(is_whole, arrow)):
+            return False
+        if tuple(arrow[:2]) not in pairs(many) or not 1 <= arrow[2] <= 99:
+            return False
+    ends = [arrow[:2] for arrow in arrows]
+    return ends == sorted(set(ends))
+
+
+def plain_is_row(many, thing):
+    return type(thing) is tuple and all(map(is_whole, thing)) and thing in rows_of(many)
+
+
+def junk():
+    """Things of any kind, made anew for each call so that no test spoils them for another."""
+    itself = []
+    itself.append(itself)
+    return [
+        None, True, False, -1, 0, 1, 2, 3, 7, 8, 99, 100, -(10 ** 5000), 10 ** 5000, 1.0, 0.5, 1j,
+        float("nan"), float("inf"), "", "0", "a", "012", b"", b"012", bytearray(b"\0\1\2"),
+        [], [0], [0, 1], [0, 1, 2], [0, 1, 1], [3, []], [3, ()], itself,
+        {}, {0: 1}, {0: 0, 1: 1, 2: 2}, {3: ()}, set(), {0, 1, 2}, frozenset((0, 1, 2)), range(3),
+        (), (0,), (1,), (0, 1), (0, 1, 2), (0, 1, 2, 3), (None, None), ((), ()), ((0, 1, 1),),
+        object(), object, len, lambda web: web,
+    ]
+
+
+def spoiled(thing):
+    """What comes of a tuple, or of a tuple within, by one wrong thing in, out, or in the place of one."""
+    for k in range(len(thing) + 1):
+        for wrong in junk():
+            yield thing[:k] + (wrong,) + thing[k:]
+            if k < len(thing):
+                yield thing[:k] + (wrong,) + thing[k + 1:]
+    for k, part in enumerate(thing):
+        yield thing[:k] + thing[k + 1:]
+        if isinstance(part, tuple):
+            yield thing[:k] + (list(part),) + thing[k + 1:]
+            yield thing[:k] + (dict(enumerate(part)),) + thing[k + 1:]
+            for worse in spoiled(part):
+                yield thing[:k] + (worse,) + thing[k + 1:]
+
+
+RING_WEB = (3, ((0, 1, 5), (1, 2, 7), (2, 0, 3)))
+
+NAMED_WRONG_WEBS = [
+    None, 3, "web", "", [3, ()], {3: ()}, [3, [(0, 1, 5)]], True, False,
+    (), (3,), (3, (), ()), (3, ((0, 1, 5),), None),
+    (0, ()), (8, ()), (-1, ()), (True, ()), (False, ()), (None, ()), ("3", ()), (3.0, ()), ((3,), ()), ([3], ()),
+    (3, None), (3, 0), (3, ""), (3, "abc"), (3, []), (3, {}), (3, [(0, 1, 5)]), (3, {(0, 1, 5): True}), (3, (0, 1, 5)),
+    (3, (None,)), (3, (5,)), (3, ("015",)), (3, ([0, 1, 5],)), (3, ({0: 1, 1: 2, 2: 3},)),
+    (3, ((),)), (3, ((0,),)), (3, ((0, 1),)), (3, ((0, 1, 5, 5),)),
+    (3, ((0, 0, 5),)), (3, ((2, 2, 5),)), (1, ((0, 0, 1),)),
+    (3, ((-1, 0, 5),)), (3, ((0, -1, 5),)), (3, ((3, 0, 5),)), (3, ((0, 3, 5),)), (1, ((0, 1, 1),)), (7, ((0, 7, 1),)),
+    (3, ((False, 1, 5),)), (3, ((0, True, 5),)), (3, ((True, 2, 5),)), (3, ((0, 1, True),)), (3, ((0, 1, False),)),
+    (3, ((None, 1, 5),)), (3, (("0", 1, 5),)), (3, ((0, (1,), 5),)), (3, ((0, [1], 5),)), (3, ((0.0, 1, 5),)),
+    (3, ((0, 1, 0),)), (3, ((0, 1, 100),)), (3, ((0, 1, -1),)), (3, ((0, 1, "5"),)), (3, ((0, 1, 5.0),)),
+    (3, ((0, 1, None),)), (3, ((0, 1, (5,)),)),
+    (3, ((1, 0, 5), (0, 1, 5))), (3, ((0, 2, 5), (0, 1, 5))), (3, ((0, 1, 5), (2, 0, 5), (1, 2, 5))),
+    (3, ((0, 1, 5), (0, 1, 5))), (3, ((0, 1, 5), (0, 1, 6))), (3, ((0, 1, 6), (0, 1, 5))),
+    (3, ((0, 1, 5), (1, 2, 5), (1, 2, 6))),
+    (3, ((0, 1, 5), None)), (3, ((0, 1, 5), (1, 2))),
+]
+
+# Of webs of 3 things.
+NAMED_WRONG_ROWS = [
+    None, 0, 3, "012", "", True, [], [0, 1, 2], {}, {0: 0, 1: 1, 2: 2}, range(3),
+    (), (0,), (0, 1), (1, 2), (0, 1, 2, 3), (0, 1, 2, 0), (0, 1, 2, 2),
+    (0, 0, 1), (0, 1, 1), (2, 2, 2), (-1, 0, 1), (0, 1, 3), (1, 2, 3), (0, 1, -1),
+    (False, 1, 2), (0, True, 2), (2, True, False), (0, 1, None), (0, 1, "2"), (0, 1, 2.0), (0, 1, (2,)), (0, 1, [2]),
+    ((0, 1, 2),), ([0, 1, 2],), (0, {}, 2),
+]
+
+
+def wrong_webs():
+    found = [thing for thing in junk() if not plain_is_web(thing)]
+    found.extend(NAMED_WRONG_WEBS)
+    found.extend(thing for thing in spoiled(RING_WEB) if not plain_is_web(thing))
+    return found
+
+
+def wrong_rows():
+    found = [thing for thing in junk() if not plain_is_row(3, thing)]
+    found.extend(NAMED_WRONG_ROWS)
+    found.extend(thing for thing in spoiled((2, 0, 1)) if not plain_is_row(3, thing))
+    return found
+
+
+def kinds(thing):
+    """A thing with the kinds of all within it, so that True is not taken for 1 nor a list for a tuple."""
+    if isinstance(thing, (list, tuple)):
+        return (type(thing).__name__, [kinds(part) for part in thing])
+    return (type(thing).__name__, thing)
+
+
+def refusal(call, *given):
+    """The class of the error that a call ends with, None if it ends without one."""
+    try:
+        call(*given)
+    except Exception as error:
+        return type(error)
+    return None
