@@ -1,6 +1,6 @@
 """Rings of arrows, and webs that have none."""
 
-from fewturned.webs import checked
+from fewturned.webs import checked, is_thing, loads
 
 
 def followers(web):
@@ -8,6 +8,19 @@ def followers(web):
     for arrow in web[1]:
         following[arrow[0]].append(arrow[1])
     return following
+
+
+def steps(path):
+    return list(zip(path, path[1:] + path[:1]))
+
+
+def is_ring(web, thing):
+    if not isinstance(thing, list) or not all([is_thing(web[0], number) for number in thing]):
+        return False
+    if len(thing) == 0 or len(set(thing)) != len(thing):
+        return False
+    load_of = loads(web)
+    return all([step in load_of for step in steps(thing)])
 
 
 def shortest_from(following, first):

@@ -54,6 +54,13 @@ def checked_row(web, row):
     return row
 
 
+def loads(web):
+    load_of = {}
+    for arrow in web[1]:
+        load_of[arrow[:2]] = arrow[2]
+    return load_of
+
+
 def turned(web, row):
     checked(web)
     checked_row(web, row)

@@ -1,6 +1,8 @@
 """Webs, rows and wrong things that the tests share, and plain second ways to tell what is right."""
 
+import fractions
 import itertools
+import math
 
 
 def pairs(many):
@@ -35,6 +37,39 @@ def some_webs():
         yield full(many)
 
 
+class Draws:
+    """Numbers that look drawn by lot, the same ones each time and under every Python."""
+
+    def __init__(self, start):
+        self.state = start
+
+    def below(self, top):
+        self.state = (self.state * 6364136223846793005 + 1442695040888963407) % 2 ** 64
+        return (self.state >> 33) % top
+
+
+TOPS = (1, 3, 9, 99)
+
+
+def drawn_web(draws, many, few, top):
+    """A web where few of 10 arrows are there, with weights to the top."""
+    chosen = [pair for pair in pairs(many) if draws.below(10) < few]
+    return (many, tuple((a, b, 1 + draws.below(top)) for a, b in chosen))
+
+
+def drawn_webs(most, each):
+    """Webs of 1 things and more with no arrows, few and all, weights of 1 alone, to 3, to 9, to 99."""
+    draws = Draws(17)
+    for many in range(1, most + 1):
+        yield (many, ())
+        for top in TOPS:
+            for few in (2, 4, 6, 10):
+                for again in range(each):
+                    yield drawn_web(draws, many, few, top)
+        for load in (1, 99):
+            yield (many, tuple((a, b, load) for a, b in pairs(many)))
+
+
 def rows_of(many):
     return list(itertools.permutations(range(many)))
 
@@ -50,6 +85,19 @@ def plain_turned(web, row):
 
 def plain_weight(web, row):
     return sum(w for a, b, w in plain_turned(web, row))
+
+
+def plain_best(web):
+    """The least weight and all best rows in their order, by going through all rows one by one."""
+    load = {(a, b): w for a, b, w in web[1]}
+    least, best = None, []
+    for row in itertools.permutations(range(web[0])):
+        found = sum(load.get((late, early), 0) for early, late in itertools.combinations(row, 2))
+        if least is None or found < least:
+            least, best = found, []
+        if found == least:
+            best.append(row)
+    return least, best
 
 
 def plain_least(web):
@@ -99,6 +147,62 @@ def plain_is_row(many, thing):
     return type(thing) is tuple and all(map(is_whole, thing)) and thing in rows_of(many)
 
 
+def plain_is_fraction(thing):
+    if type(thing) is not tuple or len(thing) != 2 or not all(map(is_whole, thing)):
+        return False
+    return thing[0] >= 0 and thing[1] >= 1 and math.gcd(*thing) == 1
+
+
+def plain_around(found):
+    return list(zip(found, found[1:] + found[:1]))
+
+
+def plain_are_shares(web, thing):
+    if type(thing) is not list:
+        return False
+    every = plain_rings(web)
+    seen = []
+    for one in thing:
+        if type(one) is not tuple or len(one) != 2:
+            return False
+        ring, share = one
+        if type(ring) is not list or not all(map(is_whole, ring)) or ring not in every or ring in seen:
+            return False
+        if not plain_is_fraction(share) or share[0] == 0:
+            return False
+        seen.append(ring)
+    return True
+
+
+def plain_left(web, shares):
+    """What the shares leave of each arrow, below 0 where they take too much."""
+    left = {(a, b): fractions.Fraction(w) for a, b, w in web[1]}
+    for ring, share in shares:
+        for step in plain_around(ring):
+            left[step] -= fractions.Fraction(*share)
+    return left
+
+
+def plain_fit(web, thing):
+    return plain_are_shares(web, thing) and all(rest >= 0 for rest in plain_left(web, thing).values())
+
+
+def plain_sum(some):
+    total = sum((fractions.Fraction(*one) for one in some), fractions.Fraction(0))
+    return (total.numerator, total.denominator)
+
+
+def plain_are_parts(web, number, thing):
+    if type(thing) is not list or len(thing) != len(web[1]):
+        return False
+    if not all(plain_is_fraction(part) and part[0] <= part[1] for part in thing):
+        return False
+    part_of = {(a, b): fractions.Fraction(*part) for (a, b, w), part in zip(web[1], thing)}
+    if any(sum(part_of[step] for step in plain_around(ring)) < 1 for ring in plain_rings(web)):
+        return False
+    return plain_is_fraction(number) and sum(w * part_of[(a, b)] for a, b, w in web[1]) == fractions.Fraction(*number)
+
+
 def junk():
     """Things of any kind, made anew for each call so that no test spoils them for another."""
     itself = []
@@ -114,22 +218,29 @@ def junk():
 
 
 def spoiled(thing):
-    """What comes of a tuple, or of a tuple within, by one wrong thing in, out, or in the place of one."""
+    """What comes of a tuple or a list, or of one within, by one wrong thing in, out, or in the place of one."""
+    kind = type(thing)
     for k in range(len(thing) + 1):
         for wrong in junk():
-            yield thing[:k] + (wrong,) + thing[k:]
+            yield thing[:k] + kind([wrong]) + thing[k:]
             if k < len(thing):
-                yield thing[:k] + (wrong,) + thing[k + 1:]
+                yield thing[:k] + kind([wrong]) + thing[k + 1:]
     for k, part in enumerate(thing):
         yield thing[:k] + thing[k + 1:]
-        if isinstance(part, tuple):
-            yield thing[:k] + (list(part),) + thing[k + 1:]
-            yield thing[:k] + (dict(enumerate(part)),) + thing[k + 1:]
+        if isinstance(part, (tuple, list)):
+            other = list if isinstance(part, tuple) else tuple
+            yield thing[:k] + kind([other(part)]) + thing[k + 1:]
+            yield thing[:k] + kind([dict(enumerate(part))]) + thing[k + 1:]
             for worse in spoiled(part):
-                yield thing[:k] + (worse,) + thing[k + 1:]
+                yield thing[:k] + kind([worse]) + thing[k + 1:]
 
 
 RING_WEB = (3, ((0, 1, 5), (1, 2, 7), (2, 0, 3)))
+
+# Shares that come to 5 halves, where no whole shares come to more than 2, and the least weight is 3.
+HALVES_WEB = (6, ((0, 3, 1), (0, 5, 1), (1, 3, 1), (2, 5, 1), (3, 2, 1), (3, 4, 1), (4, 0, 1), (4, 1, 1), (4, 2, 1),
+                  (5, 1, 1), (5, 4, 1)))
+HALVES = [([0, 3, 4], (1, 2)), ([0, 5, 4], (1, 2)), ([1, 3, 2, 5], (1, 2)), ([1, 3, 4], (1, 2)), ([2, 5, 4], (1, 2))]
 
 NAMED_WRONG_WEBS = [
     None, 3, "web", "", [3, ()], {3: ()}, [3, [(0, 1, 5)]], True, False,

@@ -33,6 +33,25 @@ WORDS_THAT_STAND_NOWHERE = """
 """.split()
 
 
+KEYWORDS = {"sorted": ("key", "reverse"), "min": ("key", "default"), "max": ("key", "default"), "sum": ("start",),
+            "enumerate": ("start",), "zip": ("strict",)}
+
+WALKED_AT_ONCE = ("zip", "enumerate", "reversed", "range")
+WALKED_METHODS = ("items", "keys", "values")
+WALKERS = ("list", "tuple", "dict", "sorted", "sum", "any", "all", "enumerate", "zip", "min", "max")
+
+
+def called(node):
+    """The plain name that a call calls, None of all else."""
+    return node.func.id if isinstance(node, ast.Call) and isinstance(node.func, ast.Name) else None
+
+
+def is_walk(node):
+    if called(node) in WALKED_AT_ONCE:
+        return True
+    return isinstance(node, ast.Call) and isinstance(node.func, ast.Attribute) and node.func.attr in WALKED_METHODS
+
+
 def source_files():
     names = sorted(name for name in os.listdir(PACKAGE) if name != "__pycache__")
     return [(name, os.path.join(PACKAGE, name)) for name in names]
@@ -120,6 +139,49 @@ class Language(unittest.TestCase):
         for where, node in self.nodes():
             if isinstance(node, ast.Call) and isinstance(node.func, ast.Attribute):
                 self.assertIn(node.func.attr, ALLOWED_METHODS + own, where)
+
+    def test_keywords(self):
+        for where, node in self.nodes():
+            if isinstance(node, ast.Call):
+                for word in node.keywords:
+                    self.assertIn(word.arg, KEYWORDS.get(called(node), ()), where)
+
+    def test_what_is_walked_at_once(self):
+        for name, text, tree in self.files():
+            walked = []
+            for node in ast.walk(tree):
+                if isinstance(node, (ast.For, ast.comprehension)):
+                    walked.append(node.iter)
+                if called(node) in WALKERS:
+                    walked.extend(node.args)
+            for node in ast.walk(tree):
+                if is_walk(node):
+                    self.assertIn(node, walked, f"{name}:{node.lineno}")
+
+    def test_what_a_loop_walks_is_not_changed_in_it(self):
+        for where, node in self.nodes():
+            if isinstance(node, ast.For):
+                walked = {part.id for part in ast.walk(node.iter) if isinstance(part, ast.Name)}
+                for part in [part for row in node.body for part in ast.walk(row)]:
+                    if isinstance(part, (ast.Attribute, ast.Subscript)) and isinstance(part.value, ast.Name):
+                        changes = isinstance(part.ctx, ast.Store) or getattr(part, "attr", "") in (
+                            "append", "clear", "extend", "insert", "pop", "remove", "reverse", "setdefault", "update")
+                        self.assertFalse(changes and part.value.id in walked, where)
+
+    def test_sets_are_not_kept(self):
+        for name, text, tree in self.files():
+            within = [node.args[0] for node in ast.walk(tree) if called(node) in ("len", "sorted")]
+            for node in ast.walk(tree):
+                self.assertNotIsInstance(node, ast.Set, name)
+                if called(node) in ("set", "frozenset"):
+                    self.assertIn(node, within, f"{name}:{node.lineno}")
+
+    def test_texts_and_powers(self):
+        for where, node in self.nodes():
+            if isinstance(node, ast.Constant) and isinstance(node.value, str):
+                self.assertNotIn("%", node.value, where)
+            if isinstance(node, ast.BinOp) and isinstance(node.op, ast.Pow):
+                self.assertIsInstance(node.right, ast.Constant, where)
 
     def test_locals_are_not_called_like_what_the_file_has(self):
         for name, text, tree in self.files():
