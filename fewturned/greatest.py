@@ -7,7 +7,8 @@ comes to. So as to reckon with whole numbers alone, all of the table is kept tim
 
 from fewturned.errors import TooBig
 from fewturned.fractions import fraction, is_at_most, is_fraction, times, together
-from fewturned.rings import rings, steps
+from fewturned.rings import rings, rings_by, steps
+from fewturned.shares import pairs_with
 from fewturned.webs import checked
 
 MOST_THINGS_FOR_GREATEST = 5
@@ -17,10 +18,11 @@ def ones(flags):
     return [1 if flag else 0 for flag in flags]
 
 
-def first_table(web, every):
+def first_table(web, cases, every):
     rows = []
     for arrow in web[1]:
-        along = ones([arrow[:2] in steps(ring) for ring in every])
+        # A step by a case wants no share of the arrow.
+        along = ones([arrow[:2] in steps(ring) and arrow[:2] not in cases for ring in every])
         own = ones([arrow == other for other in web[1]])
         rows.append(along + own + [arrow[2]])
     rows.append([-1 for ring in every] + [0 for arrow in web[1]] + [0])
@@ -36,7 +38,7 @@ def column_to_take(table):
 
 
 def row_to_leave(table, basis, column):
-    # The row that first comes to 0 as the column grows. There is one: no ring's share grows without end.
+    # The row that first comes to 0 as the column grows. There is one: each ring wants a share of some arrow.
     best = None
     for place in sorted(range(len(basis)), key=lambda row: basis[row]):
         if table[place][column] > 0:
@@ -83,10 +85,11 @@ def shares_in(every, table, basis, down):
     return found
 
 
-def greatest_of(web):
-    every = rings(web)
+def greatest_in(web, cases):
+    """What `greatest` tells, where cases are taken, as for shares, such that no ring goes by cases alone."""
+    every = rings_by(web[0], pairs_with(web, cases))
     first_basis = [len(every) + row for row in range(len(web[1]))]
-    last = last_table(first_table(web, every), first_basis)
+    last = last_table(first_table(web, cases, every), first_basis)
     bottom = last[0][-1]
     down = last[2]
     found = [fraction(part, down) for part in bottom[len(every):-1]]
@@ -97,7 +100,7 @@ def greatest(web):
     checked(web)
     if web[0] > MOST_THINGS_FOR_GREATEST:
         raise TooBig("this web has too many things for the greatest shares")
-    return greatest_of(web)
+    return greatest_in(web, {})
 
 
 def is_part(thing):

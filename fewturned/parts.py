@@ -23,7 +23,7 @@ def part_of(reached, thing):
 
 def parts(web):
     checked(web)
-    following = followers(web)
+    following = followers(web[0], web[1])
     reached = [reached_from(following, thing) for thing in range(web[0])]
     found = []
     for thing in range(web[0]):

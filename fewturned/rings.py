@@ -1,12 +1,15 @@
-"""Rings of arrows, and webs that have none."""
+"""Rings of arrows, and webs that have none.
 
-from fewturned.webs import checked, is_thing, loads
+Ways are what a ring may go by: pairs (one, other), or arrows, of which the weights are left out.
+"""
+
+from fewturned.webs import checked, is_thing
 
 
-def followers(web):
-    following = [[] for thing in range(web[0])]
-    for arrow in web[1]:
-        following[arrow[0]].append(arrow[1])
+def followers(many, ways):
+    following = [[] for thing in range(many)]
+    for way in ways:
+        following[way[0]].append(way[1])
     return following
 
 
@@ -14,13 +17,13 @@ def steps(path):
     return list(zip(path, path[1:] + path[:1]))
 
 
-def is_ring(web, thing):
-    if not isinstance(thing, list) or not all([is_thing(web[0], number) for number in thing]):
+def goes_round(many, pairs, thing):
+    """Whether a thing of any kind is a ring that goes by these pairs alone."""
+    if not isinstance(thing, list) or not all([is_thing(many, number) for number in thing]):
         return False
     if len(thing) == 0 or len(set(thing)) != len(thing):
         return False
-    load_of = loads(web)
-    return all([step in load_of for step in steps(thing)])
+    return all([step in pairs for step in steps(thing)])
 
 
 def shortest_from(following, first):
@@ -54,18 +57,23 @@ def rings_from(following, path):
 
 def ring(web):
     checked(web)
-    following = followers(web)
+    following = followers(web[0], web[1])
     found = [shortest_from(following, first) for first in range(web[0])]
     return min([path for path in found if path is not None], key=len, default=None)
 
 
-def rings(web):
-    checked(web)
-    following = followers(web)
+def rings_by(many, ways):
+    """The rising list of all rings that go by these ways, which rise."""
+    following = followers(many, ways)
     found = []
-    for first in range(web[0]):
+    for first in range(many):
         found.extend(rings_from(following, [first]))
     return found
+
+
+def rings(web):
+    checked(web)
+    return rings_by(web[0], web[1])
 
 
 def is_free(web):

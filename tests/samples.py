@@ -187,6 +187,45 @@ def plain_fit(web, thing):
     return plain_are_shares(web, thing) and all(rest >= 0 for rest in plain_left(web, thing).values())
 
 
+def plain_goes_round(many, pairs_to_go_by, thing):
+    if type(thing) is not list or not thing or not all(is_whole(one) and one in range(many) for one in thing):
+        return False
+    return len(set(thing)) == len(thing) and all(step in pairs_to_go_by for step in plain_around(thing))
+
+
+def plain_fit_in(web, cases, thing):
+    """Whether shares fit whose rings may go by cases, pairs (one, other) where one stands ahead of the other."""
+    if type(thing) is not list:
+        return False
+    left = {(a, b): fractions.Fraction(w) for a, b, w in web[1]}
+    seen = []
+    for one in thing:
+        if type(one) is not tuple or len(one) != 2 or not plain_is_fraction(one[1]) or one[1][0] == 0:
+            return False
+        ring = one[0]
+        if not plain_goes_round(web[0], set(left) | set(cases), ring) or ring[0] != min(ring) or ring in seen:
+            return False
+        seen.append(ring)
+        for step in plain_around(ring):
+            if step not in cases:
+                left[step] -= fractions.Fraction(*one[1])
+    return all(rest >= 0 for rest in left.values())
+
+
+def plain_shows(web, number, thing, cases=()):
+    if type(thing) is not tuple or not thing or type(thing[0]) is not str:
+        return False
+    if thing[0] == "shares" and len(thing) == 2 and plain_fit_in(web, cases, thing[1]):
+        return sum(fractions.Fraction(*share) for ring, share in thing[1]) >= number
+    if thing[0] == "closed" and len(thing) == 2:
+        return plain_goes_round(web[0], cases, thing[1])
+    if thing[0] != "case" or len(thing) != 5 or not all(map(is_whole, thing[1:3])) or thing[1:3] not in pairs(web[0]):
+        return False
+    one, other = thing[1:3]
+    return (plain_shows(web, number, thing[3], cases + ((one, other),))
+            and plain_shows(web, number, thing[4], cases + ((other, one),)))
+
+
 def plain_sum(some):
     total = sum((fractions.Fraction(*one) for one in some), fractions.Fraction(0))
     return (total.numerator, total.denominator)
@@ -241,6 +280,9 @@ RING_WEB = (3, ((0, 1, 5), (1, 2, 7), (2, 0, 3)))
 HALVES_WEB = (6, ((0, 3, 1), (0, 5, 1), (1, 3, 1), (2, 5, 1), (3, 2, 1), (3, 4, 1), (4, 0, 1), (4, 1, 1), (4, 2, 1),
                   (5, 1, 1), (5, 4, 1)))
 HALVES = [([0, 3, 4], (1, 2)), ([0, 5, 4], (1, 2)), ([1, 3, 2, 5], (1, 2)), ([1, 3, 4], (1, 2)), ([2, 5, 4], (1, 2))]
+
+# Three arrows from 0, 1, 2 to 3, 4, 5, and back to all others: shares come to 3 halves, and the least weight is 2.
+FENCE_WEB = (6, ((0, 3, 1), (1, 4, 1), (2, 5, 1), (3, 1, 1), (3, 2, 1), (4, 0, 1), (4, 2, 1), (5, 0, 1), (5, 1, 1)))
 
 NAMED_WRONG_WEBS = [
     None, 3, "web", "", [3, ()], {3: ()}, [3, [(0, 1, 5)]], True, False,

@@ -2,7 +2,7 @@ import copy
 import unittest
 
 from fewturned.errors import NoWeb, TooBig
-from fewturned.greatest import are_parts, greatest, greatest_of
+from fewturned.greatest import are_parts, greatest, greatest_in
 from fewturned.least import least
 from fewturned.shares import come_to, fit, whole_shares
 from samples import (HALVES, HALVES_WEB, NAMED_WRONG_WEBS, RING_WEB, Draws, all_webs, drawn_web, drawn_webs, full,
@@ -95,7 +95,7 @@ class NoWholeNumber(Checking):
     """The reckoning behind `greatest`, on webs of 6 things: those of at most 5 all come to whole numbers."""
 
     def test_by_hand(self):
-        told = greatest_of(HALVES_WEB)
+        told = greatest_in(HALVES_WEB, {})
         self.check_told(HALVES_WEB, told)
         self.assertEqual(kinds(told[0]), kinds((5, 2)))
         self.assertEqual(least(HALVES_WEB)[0], 3)
@@ -103,7 +103,7 @@ class NoWholeNumber(Checking):
     def test_the_same_web_heavier(self):
         for load in (2, 3, 98, 99):
             web = (6, tuple((a, b, load) for a, b, w in HALVES_WEB[1]))
-            told = greatest_of(web)
+            told = greatest_in(web, {})
             self.check_told(web, told)
             self.assertEqual(told[0], (5 * load, 2) if load % 2 else (5 * load // 2, 1))
             self.assertLess(told[0][0], told[0][1] * plain_least(web))
@@ -113,7 +113,7 @@ class NoWholeNumber(Checking):
         for top in (1, 3, 9, 99):
             for few in (2, 4, 6):
                 web = drawn_web(draws, 6, few, top)
-                told = greatest_of(web)
+                told = greatest_in(web, {})
                 self.check_told(web, told)
                 self.assertLessEqual(told[0][0], told[0][1] * least(web)[0])
 

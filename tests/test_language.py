@@ -183,6 +183,20 @@ class Language(unittest.TestCase):
             if isinstance(node, ast.BinOp) and isinstance(node.op, ast.Pow):
                 self.assertIsInstance(node.right, ast.Constant, where)
 
+    def test_texts_with_names_in_them(self):
+        for where, node in self.nodes():
+            if isinstance(node, ast.FormattedValue):
+                self.assertIsInstance(node.value, ast.Name, where)
+                self.assertIn(node.conversion, (-1, ord("r")), where)
+                self.assertIsNone(node.format_spec, where)
+
+    def test_methods_are_called_where_they_stand(self):
+        for name, text, tree in self.files():
+            at_once = [node.func for node in ast.walk(tree) if isinstance(node, ast.Call)]
+            for node in ast.walk(tree):
+                if isinstance(node, ast.Attribute):
+                    self.assertIn(node, at_once, f"{name}:{node.lineno}")
+
     def test_locals_are_not_called_like_what_the_file_has(self):
         for name, text, tree in self.files():
             top = [node.name for node in tree.body if isinstance(node, (ast.FunctionDef, ast.ClassDef))]
